@@ -1,0 +1,1 @@
+"""Partviews: views of one log."""

@@ -1,0 +1,124 @@
+"""The examples of the interface, as they are written in the document.
+
+>>> from partviews.logs import is_name_set
+>>> is_name_set(('b', 'a'))
+False
+>>> from partviews.logs import restrict
+>>> restrict(('a', 'c', 'b', 'a'), ('a', 'b'))
+('a', 'b', 'a')
+>>> from partviews.logs import fits
+>>> case = ((('a', 'b'), ('a', 'b', 'a')), (('b', 'c'), ('c', 'b')))
+>>> fits(case, ('a', 'c', 'b', 'a'))
+True
+
+>>> from partviews.counts import count_conflict
+>>> count_conflict(((('a',), ('a',)), (('a', 'b'), ('b',))))
+('a', 0, 1)
+>>> from partviews.counts import events
+>>> case = ((('a', 'b'), ('a', 'b', 'a')), (('b', 'c'), ('c', 'b')))
+>>> events(case)
+[('a', 1), ('a', 2), ('b', 1), ('c', 1)]
+
+>>> from partviews.rings import is_ring
+>>> case = ((('a', 'b'), ('a', 'b')), (('b', 'c'), ('b', 'c')), (('a', 'c'), ('c', 'a')))
+>>> is_ring(case, [('a', 1, 0), ('b', 1, 1), ('c', 1, 2)])
+True
+>>> from partviews.rings import shortest_ring
+>>> case = ((('a', 'b'), ('a', 'b')), (('b', 'c'), ('b', 'c')), (('a', 'c'), ('c', 'a')))
+>>> len(shortest_ring(case))
+3
+
+>>> from partviews.joining import is_possible
+>>> case = ((('a', 'b'), ('a', 'b')), (('b', 'c'), ('b', 'c')), (('a', 'c'), ('c', 'a')))
+>>> is_possible(case)
+False
+>>> from partviews.joining import least_log
+>>> case = ((('a', 'b'), ('a', 'b', 'a')), (('b', 'c'), ('c', 'b')))
+>>> least_log(case)
+('a', 'c', 'b', 'a')
+>>> from partviews.joining import count_logs
+>>> case = ((('a', 'b'), ('a', 'b', 'a')), (('b', 'c'), ('c', 'b')))
+>>> count_logs(case)
+2
+>>> from partviews.joining import all_logs
+>>> case = ((('a', 'b'), ('a', 'b', 'a')), (('b', 'c'), ('c', 'b')))
+>>> all_logs(case)
+[('a', 'c', 'b', 'a'), ('c', 'a', 'b', 'a')]
+
+>>> from partviews.certain import is_before
+>>> case = ((('a', 'b'), ('a', 'b', 'a')), (('b', 'c'), ('c', 'b')))
+>>> is_before(case, ('c', 1), ('a', 2))
+True
+>>> from partviews.certain import undecided
+>>> case = ((('a', 'b'), ('a', 'b', 'a')), (('b', 'c'), ('c', 'b')))
+>>> undecided(case)
+[(('a', 1), ('c', 1))]
+>>> from partviews.certain import both_orders
+>>> case = ((('a', 'b'), ('a', 'b', 'a')), (('b', 'c'), ('c', 'b')))
+>>> both_orders(case, ('c', 1), ('a', 1))
+(('c', 'a', 'b', 'a'), ('a', 'c', 'b', 'a'))
+>>> from partviews.certain import is_settled
+>>> case = ((('a', 'b'), ('a', 'b', 'a')), (('b', 'c'), ('c', 'b')))
+>>> is_settled(case)
+False
+
+>>> from partviews.conflicts import fits_every
+>>> case = ((('a', 'b'), ('a', 'b')), (('b', 'c'), ('b', 'c')), (('a', 'c'), ('c', 'a')))
+>>> fits_every(case, 2)
+True
+>>> from partviews.conflicts import minimal_conflicts
+>>> case = ((('a', 'b'), ('a', 'b')), (('b', 'c'), ('b', 'c')), (('a', 'c'), ('c', 'a')))
+>>> minimal_conflicts(case)
+[(0, 1, 2)]
+
+>>> from partviews.bare import is_bare_ring
+>>> family = (('a', 'b'), ('b', 'c'), ('a', 'c'))
+>>> is_bare_ring(family, ('c', 'a', 'b'))
+True
+>>> from partviews.bare import bare_rings
+>>> family = (('a', 'b'), ('b', 'c'), ('a', 'c'))
+>>> bare_rings(family)
+[('a', 'b', 'c')]
+"""
+
+import doctest
+import os
+import sys
+import unittest
+
+HERE = os.path.dirname(os.path.abspath(__file__))
+
+
+class ExampleTest(unittest.TestCase):
+
+    def check(self, failed, attempted, least):
+        self.assertEqual(failed, 0)
+        self.assertGreaterEqual(attempted, least)
+
+    def test_examples_of_the_interface(self):
+        result = doctest.testmod(sys.modules[__name__])
+        self.check(result.failed, result.attempted, 50)
+
+    def test_examples_of_the_readme(self):
+        path = os.path.join(HERE, os.pardir, 'README.md')
+        result = doctest.testfile(path, module_relative=False, encoding='utf-8')
+        self.check(result.failed, result.attempted, 10)
+
+    def test_functions_are_defined_in_their_files(self):
+        places = {
+            'logs': ['is_name_set', 'is_family', 'is_log', 'is_case', 'restrict', 'fits'],
+            'counts': ['count_conflict', 'events'],
+            'rings': ['is_ring', 'shortest_ring'],
+            'joining': ['is_possible', 'least_log', 'count_logs', 'all_logs'],
+            'certain': ['is_before', 'undecided', 'both_orders', 'is_settled'],
+            'conflicts': ['fits_every', 'minimal_conflicts'],
+            'bare': ['is_bare_ring', 'bare_rings'],
+        }
+        for place, names in places.items():
+            module = __import__('partviews.' + place, fromlist=names)
+            for name in names:
+                self.assertEqual(getattr(module, name).__module__, 'partviews.' + place)
+
+
+if __name__ == '__main__':
+    unittest.main()
