@@ -14,10 +14,10 @@ NO_NUMBERS = [value for value in ODD_VALUES if repr(value) != '1'] + [0, -1, 7, 
 FOUR_RING = (
     (('a', 'b'), ('a', 'b')), (('b', 'c'), ('b', 'c')), (('c', 'd'), ('c', 'd')), (('a', 'd'), ('d', 'a')),
 )
-# Observers 0 and 3 have counted a differently; 1, 2 and 4 have a ring of b, c and d; 1 and 5 differ over b.
+# Observers 0 and 3 have counted a differently; 1, 2 and 4 have a ring of b, c and d; 1 and 5 exchange b and c.
 SEVERAL = (
-    (('a',), ('a',)), (('b', 'c'), ('b', 'c')), (('c', 'd'), ('c', 'd')), (('a',), ('a', 'a')), (('b', 'd'), ('d', 'b')),
-    (('b', 'c'), ('c', 'b')),
+    (('a',), ('a',)), (('b', 'c'), ('b', 'c')), (('c', 'd'), ('c', 'd')), (('a',), ('a', 'a')),
+    (('b', 'd'), ('d', 'b')), (('b', 'c'), ('c', 'b')),
 )
 
 
