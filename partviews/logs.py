@@ -1,6 +1,6 @@
 """Names, name sets, families, logs and cases (points 4 and 5)."""
 
-from partviews.errors import InvalidCase, InvalidFamily, InvalidLog, InvalidNames
+from partviews.errors import InvalidCase, InvalidFamily, InvalidLog, InvalidNames, InvalidObserver
 
 MOST_LETTERS = 8
 MOST_NAMES_IN_SET = 6
@@ -65,6 +65,11 @@ def is_pair(value):
     return isinstance(value, tuple) and len(value) == 2
 
 
+def is_observer(observers, value):
+    """Tell whether a value, any value, is the number of one of the observers of a family or case."""
+    return is_integer(value) and 0 <= value < len(observers)
+
+
 def is_case(value):
     """Tell whether a value, any value, is a case."""
     if not isinstance(value, tuple) or not all(is_pair(entry) for entry in value):
@@ -97,6 +102,24 @@ def require_case(value):
         raise InvalidCase("not a case")
 
 
+def require_name_set(value):
+    """Raise InvalidNames if a value, any value, is not a name set."""
+    if not is_name_set(value):
+        raise InvalidNames("not a name set")
+
+
+def require_observer(observers, value):
+    """Raise InvalidObserver if a value, any value, is not the number of one of the observers."""
+    if not is_observer(observers, value):
+        raise InvalidObserver(value)
+
+
+def are_known(family, names):
+    """Tell whether all of some names belong to a family."""
+    known = names_of(family)
+    return all(name in known for name in names)
+
+
 def keep_names(log, names):
     """Return the names of a log that are among some names, in their order."""
     return tuple([name for name in log if name in names])
@@ -105,8 +128,7 @@ def keep_names(log, names):
 def restrict(log, names):
     """Return the restriction of a log to a name set."""
     require_log(log)
-    if not is_name_set(names):
-        raise InvalidNames("not a name set")
+    require_name_set(names)
     return keep_names(log, names)
 
 
@@ -114,7 +136,6 @@ def fits(case, log):
     """Tell whether a log fits a case."""
     require_case(case)
     require_log(log)
-    known = names_of(family_of(case))
-    if not all(name in known for name in log):
+    if not are_known(family_of(case), log):
         return False
     return all(view == keep_names(log, names) for names, view in case)

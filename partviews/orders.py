@@ -1,15 +1,16 @@
-"""The order that the views of a case without count conflict give to its events.
+"""The order that the views of a case give to its events.
 
-An order is a dict that has, for each event in ascending order, the list of
-events that stand directly before it in some view. How far a log has come is
-told by a dict that has, for each name, how many events with it were taken.
+An order is a dict that has, for each event in ascending order, a list of
+events that stand before it; what else is before it follows from these lists.
+How far a log has come is told by a dict that has, for each name, how many
+events with it were taken.
 """
 
 from partviews.counts import events_of_view, list_events
 
 
 def order_of(case):
-    """Return the order of what surely is a case without count conflict."""
+    """Return the order of what surely is a case: in each view each event stands before the next one."""
     order = {event: [] for event in list_events(case)}
     for names, view in case:
         row = events_of_view(view)

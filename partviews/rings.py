@@ -2,7 +2,7 @@
 
 from partviews.counts import events_of_view, find_count_conflict, list_events
 from partviews.errors import CountConflict
-from partviews.logs import is_integer, require_case
+from partviews.logs import is_integer, is_observer, require_case
 
 
 def is_step(case, value):
@@ -11,11 +11,23 @@ def is_step(case, value):
         return False
     name, k, observer = value
     # True and False count as 1 and 0 in Python's comparisons, but they are not integers here.
-    if not isinstance(name, str) or not is_integer(k) or not is_integer(observer):
-        return False
-    if not 0 <= observer < len(case):
+    if not isinstance(name, str) or not is_integer(k) or not is_observer(case, observer):
         return False
     return 1 <= k <= case[observer][1].count(name)
+
+
+def are_steps(case, value):
+    """Tell whether a value, any value, is a list of at least two steps with different events."""
+    if not isinstance(value, list) or len(value) < 2:
+        return False
+    if not all(is_step(case, step) for step in value):
+        return False
+    return len({(name, k) for name, k, observer in value}) == len(value)
+
+
+def with_following(ring):
+    """Return the list of pairs of each entry of a ring with the next one, of the last one with the first one."""
+    return list(zip(ring, ring[1:] + ring[:1]))
 
 
 def leads_on(case, step, following):
@@ -29,13 +41,9 @@ def leads_on(case, step, following):
 def is_ring(case, value):
     """Tell whether a value, any value, is a ring of a case."""
     require_case(case)
-    if not isinstance(value, list) or len(value) < 2:
+    if not are_steps(case, value):
         return False
-    if not all(is_step(case, step) for step in value):
-        return False
-    if len({(name, k) for name, k, observer in value}) < len(value):
-        return False
-    return all(leads_on(case, step, following) for step, following in zip(value, value[1:] + value[:1]))
+    return all(leads_on(case, step, following) for step, following in with_following(value))
 
 
 def later_events(case):
@@ -77,15 +85,19 @@ def ring_through(later, start):
     return None
 
 
-def shortest_ring(case):
-    """Return a ring of a case with as few steps as possible, or None."""
-    require_case(case)
-    if find_count_conflict(case) is not None:
-        raise CountConflict("two observers have seen a name a different number of times")
-    later = later_events(case)
+def shortest_of(later):
+    """Return a ring through any of some events with as few steps as possible, or None."""
     best = None
     for start in later:
         ring = ring_through(later, start)
         if ring is not None and (best is None or len(ring) < len(best)):
             best = ring
     return best
+
+
+def shortest_ring(case):
+    """Return a ring of a case with as few steps as possible, or None."""
+    require_case(case)
+    if find_count_conflict(case) is not None:
+        raise CountConflict("two observers have seen a name a different number of times")
+    return shortest_of(later_events(case))

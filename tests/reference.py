@@ -126,7 +126,10 @@ def reached(case):
 
 def ring_length(case):
     """The length of a shortest ring, or None."""
-    direct = edges(case)
+    return cycle_length(edges(case))
+
+
+def cycle_length(direct):
     ends = {event: {event} for event in direct}
     for length in range(1, len(direct) + 1):
         for event in ends:
@@ -140,7 +143,8 @@ def is_plain_int(value):
     return type(value) is int
 
 
-def is_ring(case, value):
+def are_steps(case, value):
+    """Whether a value is a list of at least two steps (name, k, i) with different events and numbers of observers."""
     if type(value) is not list or len(value) < 2:
         return False
     for entry in value:
@@ -151,8 +155,13 @@ def is_ring(case, value):
         if entry[2] not in range(len(case)):
             return False
     heads = [entry[:2] for entry in value]
-    if len(set(heads)) != len(heads):
+    return len(set(heads)) == len(heads)
+
+
+def is_ring(case, value):
+    if not are_steps(case, value):
         return False
+    heads = [entry[:2] for entry in value]
     for at, (name, k, i) in enumerate(value):
         row = row_of(case[i][1])
         other = heads[(at + 1) % len(heads)]

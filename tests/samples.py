@@ -301,3 +301,74 @@ def check_raises(test, error, call, *arguments):
     test.assertIs(type(caught.exception), error, (call, arguments, caught.exception))
     test.assertEqual(repr(arguments), repr(before))
     return caught.exception
+
+
+def begun(rng, case):
+    """The case with views that end earlier: what fits together still begins together."""
+    return tuple((names, view[:rng.randint(0, len(view))]) for names, view in case)
+
+
+def free_case(rng, family, most):
+    """A case of any views of at most so many events."""
+    return tuple((names, tuple(rng.choice(names) for _ in range(rng.randint(0, most)))) for names in family)
+
+
+def waiting_case(rng, size, most):
+    """A case in which each observer of a ring of names has seen a name of it and then the next one, or not yet."""
+    ring, family = named_cycle(rng, size)
+    names = sorted({name for known in family for name in known})
+    log = [rng.choice(names) for _ in range(rng.randint(0, most))]
+    case = []
+    for at, known in enumerate(family):
+        view = reference.kept(log, known)[:18] + (ring[at], ring[(at + 1) % size])[:rng.randint(1, 2)]
+        case.append((known, view))
+    rng.shuffle(case)
+    return tuple(case)
+
+
+def growing_cases(seed, many, length, **limits):
+    """Growing cases of all kinds: beginnings of one log, with growing rings, short ones and long ones, any views."""
+    rng = random.Random(seed)
+    found = []
+    for at in range(many):
+        if at % 4 == 0:
+            found.append(waiting_case(rng, rng.randint(2, 6), length // 2))
+            continue
+        if at % 8 < 4:
+            family = cycle_family(rng, rng.randint(3, 6))
+        else:
+            family = random_family(rng, **limits)
+        case = possible_case(rng, family, length)
+        if at % 4 == 2:
+            case = twisted(rng, case, rng.randint(1, 3))
+        if at % 4 == 3 and rng.random() < 0.5:
+            case = free_case(rng, family, min(20, 1 + length // 3))
+        found.append(begun(rng, case) if rng.random() < 0.8 else case)
+    return found
+
+
+def small_growing_cases():
+    return growing_cases(16, 320, 9)
+
+
+def large_growing_cases():
+    return growing_cases(17, 120, 70) + growing_cases(18, 40, 110)
+
+
+def full_growing_cases():
+    """Cases with views of 20 events each, also with 120 events of one case."""
+    rng = random.Random(19)
+    names = tuple('abcdef')
+    found = [
+        tuple((known, (name,) * 20) for known, name in zip([('a',), ('b',), ('c',), ('d',), ('e',), names], 'abcdef')),
+        tuple(((name,), (name,) * 20) for name in 'fedcba'),
+        tuple((names, (name,) * 20) for name in names),
+        tuple((tuple(sorted(pair)), (pair[0],) * 20) for pair in zip('abcdef', 'bcdefa')),
+    ]
+    for _ in range(12):
+        family = random_family(rng, most_in_set=4)
+        log = [rng.choice([name for known in family for name in known]) for _ in range(150)]
+        case = tuple((known, reference.kept(log, known)[:20]) for known in family)
+        found.append(case)
+        found.append(twisted(rng, case, 1))
+    return found

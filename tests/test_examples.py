@@ -79,6 +79,55 @@ True
 >>> family = (('a', 'b'), ('b', 'c'), ('a', 'c'))
 >>> bare_rings(family)
 [('a', 'b', 'c')]
+
+>>> from partviews.thresholds import threshold
+>>> family = (('a', 'b'), ('b', 'c'), ('a', 'c'))
+>>> threshold(family)
+3
+>>> from partviews.thresholds import built_case
+>>> family = (('a', 'b'), ('b', 'c'), ('a', 'c'))
+>>> built_case(family, ('a', 'b', 'c'))
+((('a', 'b'), ('a', 'b')), (('b', 'c'), ('b', 'c')), (('a', 'c'), ('c', 'a')))
+>>> from partviews.thresholds import is_complete
+>>> family = (('a', 'b'), ('b', 'c'), ('a', 'c'))
+>>> is_complete(family)
+True
+>>> from partviews.thresholds import open_pair
+>>> open_pair((('a', 'b'), ('b', 'c')))
+('a', 'c')
+
+>>> from partviews.growing import begins
+>>> case = ((('a', 'b'), ('a', 'b')), (('a', 'b'), ('a',)))
+>>> begins(case, ('a', 'b', 'b'))
+True
+>>> from partviews.growing import growing_log
+>>> case = ((('a', 'b'), ('a', 'b')), (('a', 'b'), ('a',)))
+>>> growing_log(case)
+('a', 'b')
+>>> from partviews.growing import is_growing_ring
+>>> case = ((('a', 'b'), ('a',)), (('a', 'b'), ('b',)))
+>>> is_growing_ring(case, [('a', 1, 0), ('b', 1, 1)])
+True
+>>> from partviews.growing import growing_ring
+>>> case = ((('a', 'b'), ('a',)), (('a', 'b'), ('b',)))
+>>> len(growing_ring(case))
+2
+>>> from partviews.growing import missing
+>>> case = ((('a', 'b'), ('a', 'b')), (('a', 'b'), ('a',)))
+>>> missing(case)
+[[], [('b', 1)]]
+
+>>> from partviews.workspace import Workspace
+>>> space = Workspace((('a', 'b'), ('a', 'b')))
+>>> space.see(0, 'a')
+>>> space.see(0, 'b')
+>>> [space.possible_next(1), space.log(), space.is_whole()]
+[['a'], ('a', 'b'), False]
+
+>>> from partviews.checker import check
+>>> case = ((('a', 'b'), ('a', 'b', 'a')), (('b', 'c'), ('c', 'b')))
+>>> check(('log', case, ('a', 'b', 'c', 'a')))
+('wrong', 1)
 """
 
 import doctest
@@ -97,7 +146,7 @@ class ExampleTest(unittest.TestCase):
 
     def test_examples_of_the_interface(self):
         result = doctest.testmod(sys.modules[__name__])
-        self.check(result.failed, result.attempted, 50)
+        self.check(result.failed, result.attempted, 88)
 
     def test_examples_of_the_readme(self):
         path = os.path.join(HERE, os.pardir, 'README.md')
@@ -113,6 +162,10 @@ class ExampleTest(unittest.TestCase):
             'certain': ['is_before', 'undecided', 'both_orders', 'is_settled'],
             'conflicts': ['fits_every', 'minimal_conflicts'],
             'bare': ['is_bare_ring', 'bare_rings'],
+            'thresholds': ['threshold', 'built_case', 'is_complete', 'open_pair'],
+            'growing': ['begins', 'growing_log', 'is_growing_ring', 'growing_ring', 'missing'],
+            'workspace': ['Workspace'],
+            'checker': ['check'],
         }
         for place, names in places.items():
             module = __import__('partviews.' + place, fromlist=names)
