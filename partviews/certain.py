@@ -1,17 +1,10 @@
 """What is certain about the order of events (point 9)."""
 
 from partviews.counts import list_events
-from partviews.errors import Impossible, NotUndecided, UnknownEvent
-from partviews.joining import find_least_log
+from partviews.errors import NotUndecided, UnknownEvent
+from partviews.joining import find_least_log, require_possible
 from partviews.logs import is_integer, is_pair, require_case
 from partviews.orders import events_before, least_of_order, order_of
-
-
-def require_possible(case):
-    """Raise InvalidCase if a value is not a case, Impossible if the case is not possible."""
-    require_case(case)
-    if find_least_log(case) is None:
-        raise Impossible("no log fits")
 
 
 def require_event(order, value):
@@ -43,6 +36,7 @@ def are_undecided(before, first, second):
 
 def is_before(case, first, second):
     """Tell whether the first event is certainly before the second one."""
+    require_case(case)
     require_possible(case)
     before = find_before(case)
     require_event(before, first)
@@ -64,6 +58,7 @@ def find_undecided(case):
 
 def undecided(case):
     """Return the ascending list of all pairs of undecided events."""
+    require_case(case)
     require_possible(case)
     return find_undecided(case)
 
@@ -77,6 +72,7 @@ def least_with(case, first, second):
 
 def both_orders(case, first, second):
     """Return the least logs with the first event before the second one and behind it."""
+    require_case(case)
     require_possible(case)
     before = find_before(case)
     require_event(before, first)
@@ -88,6 +84,7 @@ def both_orders(case, first, second):
 
 def is_settled(case):
     """Tell whether exactly one log fits a case."""
+    require_case(case)
     require_possible(case)
     # Two different logs have some two events in different orders.
     return not find_undecided(case)

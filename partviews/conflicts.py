@@ -12,18 +12,28 @@ def groups_of(case, size):
     return list(combinations(range(len(case)), size))
 
 
-def fit_together(case, group):
-    """Tell whether the views of a group of at least one observer fit together."""
-    return find_least_log(tuple([case[observer] for observer in group])) is not None
+def part_of(case, group):
+    """Return the case that consists of a group of at least one observer alone."""
+    return tuple([case[observer] for observer in group])
+
+
+def parts_of(case, number):
+    """Return the list of the cases of every so many observers, or of all of them if there are fewer."""
+    return [part_of(case, group) for group in groups_of(case, min(number, len(case)))]
+
+
+def require_group_size(value):
+    """Raise InvalidNumber if a value, any value, is not an integer from 1 to 6."""
+    if not is_integer(value) or not 1 <= value <= MOST_OBSERVERS:
+        raise InvalidNumber("not an integer from 1 to 6")
 
 
 def fits_every(case, number):
     """Tell whether every so many views fit together, or all of them if there are fewer."""
     require_case(case)
-    if not is_integer(number) or not 1 <= number <= MOST_OBSERVERS:
-        raise InvalidNumber("not an integer from 1 to 6")
+    require_group_size(number)
     # A log that fits some views fits each part of them, so smaller groups need no look.
-    return all(fit_together(case, group) for group in groups_of(case, min(number, len(case))))
+    return all(find_least_log(part) is not None for part in parts_of(case, number))
 
 
 def contains_any(group, conflicts):
@@ -39,6 +49,6 @@ def minimal_conflicts(case):
         # Groups of one size are not part of each other, so those found before are enough.
         smaller = list(found)
         for group in groups_of(case, size):
-            if not contains_any(group, smaller) and not fit_together(case, group):
+            if not contains_any(group, smaller) and find_least_log(part_of(case, group)) is None:
                 found.append(group)
     return found

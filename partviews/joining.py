@@ -1,7 +1,7 @@
 """The logs that fit a case (point 8)."""
 
 from partviews.counts import find_count_conflict, list_events
-from partviews.errors import TooLong, TooMany
+from partviews.errors import Impossible, TooLong, TooMany
 from partviews.logs import require_case
 from partviews.orders import least_of_order, next_names, nothing_taken, order_of
 
@@ -14,6 +14,12 @@ def find_least_log(case):
     if find_count_conflict(case) is not None:
         return None
     return least_of_order(order_of(case))
+
+
+def require_possible(case):
+    """Raise Impossible if no log fits what surely is a case."""
+    if find_least_log(case) is None:
+        raise Impossible("no log fits")
 
 
 def is_possible(case):
@@ -82,9 +88,8 @@ def logs_of_order(order):
     return [log for log, taken in rows]
 
 
-def all_logs(case):
-    """Return the ascending list of all logs that fit a case."""
-    require_case(case)
+def find_all_logs(case):
+    """Return the ascending list of all logs that fit what surely is a case."""
     require_short(case)
     # The number is looked at first: it is found fast where there are very many logs.
     many = find_count(case)
@@ -93,3 +98,9 @@ def all_logs(case):
     if many == 0:
         return []
     return logs_of_order(order_of(case))
+
+
+def all_logs(case):
+    """Return the ascending list of all logs that fit a case."""
+    require_case(case)
+    return find_all_logs(case)

@@ -169,6 +169,9 @@ def loose_rings(family):
     found = []
 
     def go(watchers, names):
+        # Further names only add to what an observer sees too much of.
+        if any(len(set(family[watcher]) & set(names)) > 2 for watcher in watchers):
+            return
         last = set(family[watchers[-1]])
         if len(watchers) > 1 and names[0] in last and names[0] == min(names):
             ring = tuple(zip(names, watchers))

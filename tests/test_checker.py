@@ -290,7 +290,7 @@ class WholeTest(CheckCase):
         rng = random.Random(142)
         many = 0
         for at in range(60):
-            family = cycle_family(rng, 3 + at % 4) if at % 2 else random_family(rng, most_in_set=3)
+            family = cycle_family(rng, 3 + at // 2 % 4) if at % 2 else random_family(rng, most_in_set=3)
             for ring in bare_rings(family):
                 many += 1
                 self.check(('bare', family, ring), RIGHT)

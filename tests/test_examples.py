@@ -128,6 +128,46 @@ True
 >>> case = ((('a', 'b'), ('a', 'b', 'a')), (('b', 'c'), ('c', 'b')))
 >>> check(('log', case, ('a', 'b', 'c', 'a')))
 ('wrong', 1)
+
+>>> from partviews.questions import possible_views
+>>> case = ((('a', 'b'), ('a', 'b', 'a')), (('b', 'c'), ('c', 'b')))
+>>> possible_views(case, ('a', 'c'))
+[(('a', 'c', 'a'), 1), (('c', 'a', 'a'), 1)]
+>>> from partviews.questions import best_pair
+>>> case = ((('a', 'b'), ('a', 'b', 'a')), (('b', 'c'), ('c', 'b')))
+>>> best_pair(case)
+('a', 'c')
+
+>>> from partviews.loose import is_loose_ring
+>>> family = (('a', 'b'), ('b', 'c'), ('a', 'c'))
+>>> is_loose_ring(family, (('a', 0), ('b', 1), ('c', 2)))
+True
+>>> from partviews.loose import longest_loose_ring
+>>> print(longest_loose_ring((('a', 'b'), ('b', 'c'))))
+None
+>>> from partviews.loose import growing_threshold
+>>> family = (('a', 'b', 'c'), ('a', 'b', 'd'), ('a', 'c', 'd'), ('b', 'c', 'd'))
+>>> growing_threshold(family)
+3
+>>> from partviews.loose import built_growing_case
+>>> built_growing_case((('a', 'b'), ('a', 'b')), (('a', 0), ('b', 1)))
+((('a', 'b'), ('a', 'b')), (('a', 'b'), ('b', 'a')))
+>>> from partviews.loose import every_grows
+>>> case = ((('a', 'b'), ('a',)), (('a', 'b'), ('b',)))
+>>> every_grows(case, 2)
+False
+
+>>> from partviews.machines import answer_to, least_question, parting_log
+>>> family = (('a', 'b'), ('b', 'c'))
+>>> latest = ((False, True), ((1, 0, 0), (1, 1, 0)))
+>>> odd = ((False, True, True), ((0, 1, 0), (2, 0, 2), (1, 0, 1)))
+>>> [answer_to(family, latest, ('c', 'a', 'b')), least_question(family, odd), parting_log(family, latest, odd)]
+[True, ((False, True), ((0, 1, 0), (1, 0, 1))), ('a',)]
+>>> from partviews.machines import before_of, once_of, opposite_of
+>>> family = (('a', 'b'), ('b', 'c'))
+>>> latest = ((False, True), ((1, 0, 0), (1, 1, 0)))
+>>> [once_of(family, latest), opposite_of(family, latest)]
+[((False, True), ((1, 0, 0), (1, 1, 1))), ((True, False), ((1, 0, 0), (1, 1, 0)))]
 """
 
 import doctest
@@ -146,7 +186,7 @@ class ExampleTest(unittest.TestCase):
 
     def test_examples_of_the_interface(self):
         result = doctest.testmod(sys.modules[__name__])
-        self.check(result.failed, result.attempted, 88)
+        self.check(result.failed, result.attempted, 116)
 
     def test_examples_of_the_readme(self):
         path = os.path.join(HERE, os.pardir, 'README.md')
@@ -166,6 +206,15 @@ class ExampleTest(unittest.TestCase):
             'growing': ['begins', 'growing_log', 'is_growing_ring', 'growing_ring', 'missing'],
             'workspace': ['Workspace'],
             'checker': ['check'],
+            'questions': ['possible_views', 'best_pair'],
+            'loose': [
+                'is_loose_ring', 'longest_loose_ring', 'growing_threshold', 'built_growing_case', 'every_grows',
+            ],
+            'wrongs': ['InvalidQuestion', 'InvalidGroup', 'NotARecord'],
+            'machines': [
+                'is_question', 'answer_to', 'least_question', 'are_alike', 'parting_log', 'implies', 'joint_classes',
+                'both_of', 'either_of', 'opposite_of', 'once_of', 'before_of', 'since_of',
+            ],
         }
         for place, names in places.items():
             module = __import__('partviews.' + place, fromlist=names)

@@ -459,7 +459,7 @@ class HistoryTest(WorkspaceCase):
         rng = random.Random(121)
         errors = {}
         for at in range(70):
-            family = cycle_family(rng, 3 + at % 4) if at % 2 else random_family(rng)
+            family = cycle_family(rng, 3 + at // 2 % 4) if at % 2 else random_family(rng)
             self.run_history(rng, family, 90, errors)
         for error in (InvalidObserver, NotSeen, Contradiction, NothingSeen, Full, InvalidMark):
             self.assertGreater(errors[error], 20, error)
@@ -476,7 +476,7 @@ class HistoryTest(WorkspaceCase):
         rng = random.Random(123)
         refused = 0
         for at in range(60):
-            family = cycle_family(rng, 3 + at % 4) if at % 2 else random_family(rng)
+            family = cycle_family(rng, 3 + at // 2 % 4) if at % 2 else random_family(rng)
             space = Workspace(family)
             for _ in range(30):
                 observer = rng.randrange(len(family))
