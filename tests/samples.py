@@ -1,10 +1,14 @@
 """Values, families and cases that the tests are made with. The seeds are fixed: each run is the same."""
 
 import copy
+import os
 import random
+import subprocess
+import sys
 
 from tests import reference
 
+HERE = os.path.dirname(os.path.dirname(os.path.abspath(__file__)))
 NAMES = ('a', 'ab', 'b', 'c', 'd', 'ef', 'x', 'zzzzzzzz')
 
 
@@ -371,4 +375,16 @@ def full_growing_cases():
         case = tuple((known, reference.kept(log, known)[:20]) for known in family)
         found.append(case)
         found.append(twisted(rng, case, 1))
+    return found
+
+
+def other_runs(program):
+    """What a program prints in three other runs: Python orders the members of sets by a number of each run."""
+    found = []
+    for seed in '012':
+        run = subprocess.run(
+            [sys.executable, '-B', '-c', program], cwd=HERE, capture_output=True, check=True, text=True,
+            env=dict(os.environ, PYTHONHASHSEED=seed, PYTHONPATH=os.pathsep.join([HERE] + sys.path)),
+        )
+        found.append(run.stdout)
     return found

@@ -1,10 +1,7 @@
 """Points 15 and 16 and partviews/growing.py."""
 
 import copy
-import os
 import random
-import subprocess
-import sys
 import unittest
 
 from partviews.errors import InvalidCase, InvalidLog
@@ -14,7 +11,7 @@ from tests import growing_reference as growing
 from tests import reference
 from tests.samples import (
     GOOD_CASE, NO_CASES, ODD_VALUES, RING, RING_CASE, check_new_lists, check_raises, full_growing_cases,
-    growing_cases, large_growing_cases, random_cases, same_again, small_growing_cases,
+    growing_cases, large_growing_cases, other_runs, random_cases, same_again, small_growing_cases,
 )
 from tests.test_logs import NO_LOGS
 from tests.test_rings import other_rings
@@ -24,7 +21,6 @@ CROSSED = ((('a', 'b'), ('a',)), (('a', 'b'), ('b',)))
 CROSSED_RING = [('a', 1, 0), ('b', 1, 1)]
 THREE_WAIT = ((('a', 'b'), ('a',)), (('b', 'c'), ('b',)), (('a', 'c'), ('c',)))
 ABC = ('a', 'b', 'c')
-HERE = os.path.dirname(os.path.dirname(os.path.abspath(__file__)))
 
 
 def all_growing_cases():
@@ -351,19 +347,12 @@ class GrowingRingTest(unittest.TestCase):
         self.assertEqual(first, again[::-1])
 
     def test_same_result_in_another_run(self):
-        # Python orders the members of sets of strings by a number that PYTHONHASHSEED sets.
         program = (
             'from partviews.growing import growing_ring\n'
             'from tests.samples import small_growing_cases\n'
             'print([growing_ring(case) for case in small_growing_cases()])\n'
         )
-        found = []
-        for seed in '012':
-            run = subprocess.run(
-                [sys.executable, '-B', '-c', program], cwd=HERE, capture_output=True, check=True, text=True,
-                env=dict(os.environ, PYTHONHASHSEED=seed, PYTHONPATH=os.pathsep.join([HERE] + sys.path)),
-            )
-            found.append(run.stdout)
+        found = other_runs(program)
         self.assertIn('[(', found[0])
         self.assertEqual(found, found[:1] * 3)
 

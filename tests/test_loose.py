@@ -1,10 +1,7 @@
 """Points 20 and 21 and partviews/loose.py."""
 
 import copy
-import os
 import random
-import subprocess
-import sys
 import unittest
 
 from partviews.errors import InvalidCase, InvalidFamily, InvalidNumber, InvalidRing
@@ -16,12 +13,11 @@ from tests import growing_reference as growing
 from tests import reference
 from tests.samples import (
     GOOD_CASE, NAMES, NO_CASES, NO_FAMILIES, ODD_VALUES, RING_CASE, check_raises, cycle_family, large_growing_cases,
-    random_family, same_again, small_growing_cases,
+    other_runs, random_family, same_again, small_growing_cases,
 )
 from tests.test_bare import FOUR, PAIRS, SIX, THREE
 from tests.test_conflicts import NO_NUMBERS
 
-HERE = os.path.dirname(os.path.dirname(os.path.abspath(__file__)))
 ALL_SIX = ('a', 'b', 'c', 'd', 'e', 'f')
 TWINS = (('a', 'b'), ('a', 'b'))
 THREES = (('a', 'b', 'c'), ('a', 'b', 'd'), ('a', 'c', 'd'), ('b', 'c', 'd'))
@@ -243,19 +239,12 @@ class LongestTest(unittest.TestCase):
         self.assertLess(min(differ), 0)
 
     def test_same_result_in_another_run(self):
-        # Python orders the members of sets of strings by a number that PYTHONHASHSEED sets.
         program = (
             'from partviews.loose import longest_loose_ring\n'
             'from tests.test_loose import families\n'
             'print([longest_loose_ring(family) for family in families()])\n'
         )
-        found = []
-        for seed in '012':
-            run = subprocess.run(
-                [sys.executable, '-B', '-c', program], cwd=HERE, capture_output=True, check=True, text=True,
-                env=dict(os.environ, PYTHONHASHSEED=seed, PYTHONPATH=os.pathsep.join([HERE] + sys.path)),
-            )
-            found.append(run.stdout)
+        found = other_runs(program)
         self.assertEqual(found, [repr([longest_loose_ring(family) for family in families()]) + '\n'] * 3)
 
     def test_errors(self):

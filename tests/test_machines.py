@@ -1,10 +1,7 @@
 """Points 22 to 24, what point 34 says of "alike", and partviews/machines.py."""
 
 import copy
-import os
 import random
-import subprocess
-import sys
 import unittest
 
 from partviews.errors import InvalidFamily, InvalidLog, TooMany
@@ -19,9 +16,8 @@ from tests.question_samples import (
     ANY_VALUES, FAMILY, FIRST_A, LATEST, NO, ODD, YES, bad_questions, counter, doubled, lasso, random_question,
     some_questions,
 )
-from tests.samples import NO_FAMILIES, check_raises, same_again
+from tests.samples import NO_FAMILIES, check_raises, other_runs, same_again
 
-HERE = os.path.dirname(os.path.dirname(os.path.abspath(__file__)))
 ONE = (('a',),)
 TWO = (('a', 'b'),)
 MAKERS = {'both': both_of, 'either': either_of, 'once': once_of, 'before': before_of, 'since': since_of}
@@ -556,7 +552,6 @@ class WrongArgumentsTest(MachineCase):
 class SameAgainTest(MachineCase):
 
     def test_same_result_in_another_run(self):
-        # Python orders the members of sets of strings by a number that PYTHONHASHSEED sets.
         program = (
             'from partviews.machines import *\n'
             'from tests.question_samples import some_questions\n'
@@ -564,13 +559,7 @@ class SameAgainTest(MachineCase):
             '    print(least_question(family, question), parting_log(family, question, other))\n'
             '    print(both_of(family, question, other), since_of(family, question, other))\n'
         )
-        found = []
-        for seed in '012':
-            run = subprocess.run(
-                [sys.executable, '-B', '-c', program], cwd=HERE, capture_output=True, check=True, text=True,
-                env=dict(os.environ, PYTHONHASHSEED=seed, PYTHONPATH=os.pathsep.join([HERE] + sys.path)),
-            )
-            found.append(run.stdout)
+        found = other_runs(program)
         self.assertIn('True', found[0])
         self.assertEqual(found, found[:1] * 3)
 

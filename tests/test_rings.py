@@ -1,10 +1,7 @@
 """Point 7 and partviews/rings.py."""
 
 import copy
-import os
 import random
-import subprocess
-import sys
 import unittest
 
 from partviews.errors import CountConflict, InvalidCase
@@ -12,12 +9,11 @@ from partviews.rings import is_ring, shortest_ring
 from tests import reference
 from tests.samples import (
     GOOD_CASE, NO_CASES, ODD_VALUES, RING, RING_CASE, cases_with_rings, check_new_lists, check_raises, large_cases,
-    miscounted, random_cases, same_again, small_cases, twisted,
+    miscounted, other_runs, random_cases, same_again, small_cases, twisted,
 )
 
 TWO_VIEWS = ((('a', 'b'), ('a', 'b')), (('a', 'b'), ('b', 'a')))
 TWO_RING = [('a', 1, 0), ('b', 1, 1)]
-HERE = os.path.dirname(os.path.dirname(os.path.abspath(__file__)))
 
 
 def found_rings(case, rng):
@@ -291,19 +287,12 @@ class ShortestRingTest(unittest.TestCase):
         self.assertEqual(first, again[::-1])
 
     def test_same_result_in_another_run(self):
-        # Python orders the members of sets of strings by a number that PYTHONHASHSEED sets.
         program = (
             'from partviews.rings import shortest_ring\n'
             'from tests.samples import cases_with_rings\n'
             'print([shortest_ring(case) for case in cases_with_rings(39, 60, 8)])\n'
         )
-        found = []
-        for seed in '012':
-            run = subprocess.run(
-                [sys.executable, '-B', '-c', program], cwd=HERE, capture_output=True, check=True, text=True,
-                env=dict(os.environ, PYTHONHASHSEED=seed, PYTHONPATH=os.pathsep.join([HERE] + sys.path)),
-            )
-            found.append(run.stdout)
+        found = other_runs(program)
         self.assertEqual(found, [repr([shortest_ring(case) for case in cases_with_rings(39, 60, 8)]) + '\n'] * 3)
 
     def test_errors(self):
