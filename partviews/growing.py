@@ -6,13 +6,16 @@ from partviews.orders import least_of_order, order_of
 from partviews.rings import are_steps, later_events, shortest_of, with_following
 
 
+def has_beginnings(case, log):
+    """Tell whether all views are beginnings of the restrictions of a log, where nothing is wrong with the arguments."""
+    return all(view == keep_names(log, names)[:len(view)] for names, view in case)
+
+
 def begins(case, log):
     """Tell whether a log begins with the views of a case."""
     require_case(case)
     require_log(log)
-    if not are_known(family_of(case), log):
-        return False
-    return all(view == keep_names(log, names)[:len(view)] for names, view in case)
+    return are_known(family_of(case), log) and has_beginnings(case, log)
 
 
 def missed_of(row, names, view):

@@ -132,10 +132,13 @@ def restrict(log, names):
     return keep_names(log, names)
 
 
+def has_views(case, log):
+    """Tell whether all views of a case are the restrictions of a log, where nothing is wrong with the arguments."""
+    return all(view == keep_names(log, names) for names, view in case)
+
+
 def fits(case, log):
     """Tell whether a log fits a case."""
     require_case(case)
     require_log(log)
-    if not are_known(family_of(case), log):
-        return False
-    return all(view == keep_names(log, names) for names, view in case)
+    return are_known(family_of(case), log) and has_views(case, log)

@@ -3,7 +3,7 @@
 from partviews.errors import InvalidLog
 from partviews.logs import are_known, is_integer, is_pair, names_of, require_family
 from partviews.states import (
-    MOST_STATES, classes_by_state, least_of, log_to, small_question, walk_from, walk_of_both,
+    MOST_STATES, classes_by_state, find_parting_log, least_of, question_in, walk_from, walk_of_both,
 )
 from partviews.wrongs import InvalidQuestion
 
@@ -46,9 +46,14 @@ def require_questions(family, question, other):
     require_question(family, other)
 
 
+def is_log_of(family, value):
+    """Tell whether a value, any value, is a tuple of names of what surely is a family, of any length."""
+    return isinstance(value, tuple) and are_known(family, value)
+
+
 def require_log_of(family, value):
     """Raise InvalidLog if a value, any value, is not a tuple of names of a family, of any length."""
-    if not isinstance(value, tuple) or not are_known(family, value):
+    if not is_log_of(family, value):
         raise InvalidLog("not a tuple of names of the family")
 
 
@@ -84,11 +89,7 @@ def are_alike(family, question, other):
 def parting_log(family, question, other):
     """Return the least log to which two questions have different answers, or None."""
     require_questions(family, question, other)
-    places, steps = walk_of_both(question, other)
-    for number, (state, second) in enumerate(places):
-        if question[0][state] != other[0][second]:
-            return log_to(names_of(family), steps, number)
-    return None
+    return find_parting_log(names_of(family), question, other, (0, 0))
 
 
 def implies(family, question, other):
@@ -110,16 +111,16 @@ def both_of(family, question, other):
     """Return the least question that answers yes where two questions do."""
     require_questions(family, question, other)
     one, two = least_of(question), least_of(other)
-    places, steps = walk_of_both(one, two)
-    return small_question([one[0][first] and two[0][second] for first, second in places], steps)
+    places, steps = walk_of_both(one, two, (0, 0), MOST_STATES)
+    return question_in([one[0][first] and two[0][second] for first, second in places], steps)
 
 
 def either_of(family, question, other):
     """Return the least question that answers yes where one of two questions does."""
     require_questions(family, question, other)
     one, two = least_of(question), least_of(other)
-    places, steps = walk_of_both(one, two)
-    return small_question([one[0][first] or two[0][second] for first, second in places], steps)
+    places, steps = walk_of_both(one, two, (0, 0), MOST_STATES)
+    return question_in([one[0][first] or two[0][second] for first, second in places], steps)
 
 
 def opposite_of(family, question):
@@ -144,8 +145,8 @@ def once_of(family, question):
     """Return the least question that answers yes where a question does so to some beginning."""
     require_question(family, question)
     least = least_of(question)
-    places, steps = walk_from((0, least[0][0]), len(names_of(family)), once_step(least))
-    return small_question([once for state, once in places], steps)
+    places, steps = walk_from((0, least[0][0]), len(names_of(family)), once_step(least), MOST_STATES)
+    return question_in([once for state, once in places], steps)
 
 
 def before_step(question):
@@ -157,8 +158,8 @@ def before_step(question):
 def before_of(family, question):
     """Return the least question that answers yes where a question does so to the log without its last name."""
     require_question(family, question)
-    places, steps = walk_from((0, False), len(names_of(family)), before_step(least_of(question)))
-    return small_question([before for state, before in places], steps)
+    places, steps = walk_from((0, False), len(names_of(family)), before_step(least_of(question)), MOST_STATES)
+    return question_in([before for state, before in places], steps)
 
 
 def since_step(question, other):
@@ -181,5 +182,5 @@ def since_of(family, question, other):
     """
     require_questions(family, question, other)
     one, two = least_of(question), least_of(other)
-    places, steps = walk_from((0, 0, two[0][0]), len(names_of(family)), since_step(one, two))
-    return small_question([since for state, second, since in places], steps)
+    places, steps = walk_from((0, 0, two[0][0]), len(names_of(family)), since_step(one, two), MOST_STATES)
+    return question_in([since for state, second, since in places], steps)

@@ -12,8 +12,11 @@ from partviews.errors import TooMany
 MOST_STATES = 60
 
 
-def walk_from(start, many, step):
-    """Return the walk from a first place by so many names, where step(place, k) is the next place by the name k."""
+def walk_from(start, many, step, most=None):
+    """Return the walk from a first place by so many names, where step(place, k) is the next place by the name k.
+
+    Raise TooMany as soon as there are more places than the greatest number that may be, if it is given.
+    """
     numbers = {start: 0}
     places = [start]
     steps = []
@@ -23,6 +26,8 @@ def walk_from(start, many, step):
             if target not in numbers:
                 numbers[target] = len(places)
                 places.append(target)
+        if most is not None and len(places) > most:
+            raise TooMany("logs lead to too many places")
         steps.append(tuple([numbers[target] for target in targets]))
     return (places, tuple(steps))
 
@@ -33,10 +38,10 @@ def walk_of(question):
     return walk_from(0, len(steps[0]), lambda state, k: steps[state][k])
 
 
-def walk_of_both(question, other):
-    """Return the walk through the pairs of states of two questions for one family."""
+def walk_of_both(question, other, start=(0, 0), most=None):
+    """Return the walk from a pair of states of two questions for one family; most is as in walk_from."""
     steps, others = question[1], other[1]
-    return walk_from((0, 0), len(steps[0]), lambda pair, k: (steps[pair[0]][k], others[pair[1]][k]))
+    return walk_from(start, len(steps[0]), lambda pair, k: (steps[pair[0]][k], others[pair[1]][k]), most)
 
 
 def log_to(names, steps, number):
@@ -48,6 +53,15 @@ def log_to(names, steps, number):
         log = (names[steps[before].index(number)],) + log
         number = before
     return log
+
+
+def find_parting_log(names, question, other, start):
+    """Return the least log that has different answers from the two states of a pair on, or None."""
+    places, steps = walk_of_both(question, other, start)
+    for number, (state, second) in enumerate(places):
+        if question[0][state] != other[0][second]:
+            return log_to(names, steps, number)
+    return None
 
 
 def numbered(values):
@@ -80,13 +94,6 @@ def question_in(answers, steps):
         tuple([answers[place] for place in firsts]),
         tuple([tuple([classes[target] for target in steps[place]]) for place in firsts]),
     )
-
-
-def small_question(answers, steps):
-    """Return what question_in returns, or raise TooMany if there are too many places."""
-    if len(steps) > MOST_STATES:
-        raise TooMany("logs lead to more than 60 places")
-    return question_in(answers, steps)
 
 
 def least_of(question):

@@ -1,9 +1,14 @@
 """Questions for families that the tests are made with. The seeds are fixed: each run is the same."""
 
+import copy
 import random
 
+from partviews.errors import InvalidCase, InvalidFamily, InvalidLog, InvalidNames, InvalidObserver
+from partviews.wrongs import InvalidGroup, InvalidQuestion
 from tests.growing_reference import names_of
-from tests.samples import ODD_VALUES, cycle_family, random_family
+from tests.samples import (
+    GOOD_CASE, NO_CASES, NO_FAMILIES, ODD_VALUES, check_raises, cycle_family, random_family, same_again,
+)
 
 FAMILY = (('a', 'b'), ('b', 'c'))
 LATEST = ((False, True), ((1, 0, 0), (1, 1, 0)))
@@ -24,6 +29,24 @@ DEEP_VALUES = [
     very_deep(0, tuple), very_deep('a', list), very_deep(None, tuple), very_deep((), list), (very_deep(True, tuple),),
 ]
 ANY_VALUES = ODD_VALUES + DEEP_VALUES
+# What is no log of FAMILY, no group of it, no observer, and no names that may be needed.
+BAD_LOGS = [value for value in ANY_VALUES if value not in ((), ('a',))] + [
+    ['a'], [], 'a', 'abc', 'b', ('d',), ('a', 'x'), ('a', 'A'), ('a', ''), ('ab',), ('a', ('b',)), ('a', ['b']),
+    ('a', None), ('a', 0), ('a', True), (('a', 'b'),), ('a', 'b', 'c', 'd'), ('x',) * 130,
+]
+BAD_GROUPS = [value for value in ANY_VALUES if repr(value) not in ('()', '(1,)')] + [
+    [], [0], [0, 1], '', '01', 0, 1, None, (1, 0), (0, 0), (1, 1), (0, 0, 1), (0, 1, 1), (2,), (0, 2), (0, 1, 2),
+    (-1,), (-1, 0), (True,), (False,), (False, 1), (0, True), (False, True), ('0',), (0, '1'), (None,), (0, None),
+    ((0,),), ((0, 1),), (0, (1,)), ([0],), (0, [1]), (10 ** 30,), (0, 10 ** 30),
+]
+BAD_OBSERVERS = [value for value in ANY_VALUES if repr(value) not in ('0', '1')] + [
+    2, 3, -1, -2, 10 ** 30, True, False, None, '0', '1', '', (0,), [0], (), [], ('a', 'b'),
+]
+BAD_NEEDS = [value for value in ANY_VALUES if repr(value) != "('a',)"] + [
+    (), [], 'a', 'ab', ['a'], ['a', 'b'], ('d',), ('a', 'd'), ('a', 'a'), ('b', 'a'), ('c', 'a'), ('a', 'b', 'c'),
+    ('a', None), (None, 'a'), ('a', 1), (0,), (True,), (('a',),), (('a', 'b'),), ('a', ('b',)), ('a', ['b']), ('',),
+    ('ab',), ('a', 'bc'), ('A', 'a'),
+]
 
 
 def bad_questions():
@@ -120,3 +143,43 @@ def some_questions(seed, many, most_states=6):
             other = (tuple(said or rng.random() < 0.4 for said in question[0]), question[1])
         found.append((family, question, other))
     return found
+
+
+WRONG = {
+    'f': (InvalidFamily, NO_FAMILIES), 'c': (InvalidCase, NO_CASES), 'q': (InvalidQuestion, bad_questions()),
+    'l': (InvalidLog, BAD_LOGS), 'g': (InvalidGroup, BAD_GROUPS), 'h': (InvalidGroup, BAD_GROUPS + [()]),
+    'o': (InvalidObserver, BAD_OBSERVERS), 'n': (InvalidNames, BAD_NEEDS),
+}
+RIGHT = {
+    'f': (FAMILY,), 'c': (GOOD_CASE,), 'q': (ODD, LATEST), 'l': (('c', 'a', 'b'), ('b',)), 'g': ((1,), (0, 1), ()),
+    'h': ((0, 1), (1,)), 'o': (1, 0), 'n': (('a', 'c'),), 'b': (True,), 'v': (None,),
+}
+
+
+def right_arguments(kinds):
+    """Right arguments of the kinds that the letters of WRONG stand for; those of one kind are different ones."""
+    return [RIGHT[kind][kinds[:at].count(kind) % len(RIGHT[kind])] for at, kind in enumerate(kinds)]
+
+
+def check_right_ones(test, call, kinds):
+    """A call leaves its arguments as they are, and returns the same once more."""
+    arguments = right_arguments(kinds)
+    before = copy.deepcopy(arguments)
+    first = call(*arguments)
+    test.assertEqual(repr(arguments), repr(before))
+    test.assertEqual(call(*same_again(arguments)), first)
+
+
+def check_wrong_ones(test, call, kinds):
+    """Each argument is looked at in its place: it alone is wrong, or wrong ones stand behind it, too."""
+    right = right_arguments(kinds)
+    for at, kind in enumerate(kinds):
+        if kind in WRONG:
+            error, values = WRONG[kind]
+            behind = len(right[at + 1:])
+            for value in values:
+                found = check_raises(test, error, call, *right[:at], value, *right[at + 1:])
+                if error is InvalidObserver:
+                    test.assertIs(found.number, value)
+                for other in (None, [], 'd'):
+                    check_raises(test, error, call, *right[:at], value, *[other] * behind)

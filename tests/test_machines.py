@@ -13,8 +13,8 @@ from partviews.wrongs import InvalidQuestion
 from tests import machine_reference as machine
 from tests.growing_reference import names_of
 from tests.question_samples import (
-    ANY_VALUES, FAMILY, FIRST_A, LATEST, NO, ODD, YES, bad_questions, counter, doubled, lasso, random_question,
-    some_questions,
+    FAMILY, FIRST_A, LATEST, NO, ODD, YES, bad_questions, check_right_ones, check_wrong_ones, counter, doubled, lasso,
+    random_question, right_arguments, some_questions,
 )
 from tests.samples import NO_FAMILIES, check_raises, other_runs, same_again
 
@@ -28,14 +28,6 @@ CALLS = [
     (joint_classes, 'fqq'), (both_of, 'fqq'), (either_of, 'fqq'), (opposite_of, 'fq'), (once_of, 'fq'),
     (before_of, 'fq'), (since_of, 'fqq'),
 ]
-BAD_LOGS = [value for value in ANY_VALUES if value not in ((), ('a',))] + [
-    ['a'], [], 'a', 'abc', 'b', ('d',), ('a', 'x'), ('a', 'A'), ('a', ''), ('ab',), ('a', ('b',)), ('a', ['b']),
-    ('a', None), ('a', 0), ('a', True), (('a', 'b'),), ('a', 'b', 'c', 'd'), ('x',) * 130,
-]
-
-
-def sample(kind, at):
-    return {'f': FAMILY, 'q': (ODD, LATEST)[at % 2], 'l': ('c', 'a', 'b')}[kind]
 
 
 class MachineCase(unittest.TestCase):
@@ -512,30 +504,17 @@ class WrongArgumentsTest(MachineCase):
 
     def test_right_ones(self):
         for call, kinds in CALLS:
-            arguments = [sample(kind, at) for at, kind in enumerate(kinds)]
-            before = copy.deepcopy(arguments)
-            first = call(*arguments)
-            self.assertEqual(repr(arguments), repr(before))
-            self.assertEqual(call(*same_again(arguments)), first)
+            check_right_ones(self, call, kinds)
 
     def test_each_argument(self):
-        wrong = {
-            'f': (InvalidFamily, NO_FAMILIES), 'q': (InvalidQuestion, bad_questions()), 'l': (InvalidLog, BAD_LOGS),
-        }
         for call, kinds in CALLS:
-            right = [sample(kind, at) for at, kind in enumerate(kinds)]
-            for at, kind in enumerate(kinds):
-                error, values = wrong[kind]
-                for value in values:
-                    check_raises(self, error, call, *right[:at], value, *right[at + 1:])
-                    for behind in (None, [], (), 'd'):
-                        check_raises(self, error, call, *right[:at], value, *[behind] * len(right[at + 1:]))
+            check_wrong_ones(self, call, kinds)
 
     def test_question_for_another_family(self):
         for call, kinds in CALLS:
             for at, kind in enumerate(kinds):
                 if kind == 'q':
-                    arguments = [sample(kind, at) for at, kind in enumerate(kinds)]
+                    arguments = right_arguments(kinds)
                     arguments[at] = lasso(TWO, 'a', 0, 2)
                     check_raises(self, InvalidQuestion, call, *arguments)
                     arguments[at] = ((True,), ((0,) * 4,))
