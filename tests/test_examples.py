@@ -168,6 +168,69 @@ False
 >>> latest = ((False, True), ((1, 0, 0), (1, 1, 0)))
 >>> [once_of(family, latest), opposite_of(family, latest)]
 [((False, True), ((1, 0, 0), (1, 1, 1))), ((True, False), ((1, 0, 0), (1, 1, 0)))]
+
+>>> from partviews.needs import classes_of, needed_names, needed_pairs
+>>> family = (('a', 'b'), ('b', 'c'))
+>>> latest = ((False, True), ((1, 0, 0), (1, 1, 0)))
+>>> odd = ((False, True, True), ((0, 1, 0), (2, 0, 2), (1, 0, 1)))
+>>> [needed_names(family, latest), needed_pairs(family, latest), classes_of(family, odd)]
+[['a', 'c'], [('a', 'c')], (0, 1, 1)]
+
+>>> from partviews.groups import does_answer, further_names, greatest_groups, least_groups
+>>> family = (('a', 'b'), ('b', 'c'))
+>>> latest = ((False, True), ((1, 0, 0), (1, 1, 0)))
+>>> odd = ((False, True), ((0, 1, 0), (1, 0, 1)))
+>>> [does_answer(family, (0, 1), latest), further_names(family, (0, 1), latest), least_groups(family, odd), greatest_groups(family, odd)]
+[False, ('a', 'c'), [(0,), (1,)], [()]]
+>>> from partviews.groups import sees_as_much
+>>> [sees_as_much(family, (0, 1), (1,)), sees_as_much(family, (0,), (1,))]
+[True, False]
+
+>>> from partviews.verdicts import all_cuts, cut_table, first_log, verdict
+>>> case = ((('a', 'b'), ('a', 'b', 'a')), (('b', 'c'), ('c', 'b')))
+>>> latest = ((False, True), ((1, 0, 0), (1, 1, 0)))
+>>> first_a = ((False, True, False), ((1, 2, 2), (1, 1, 1), (2, 2, 2)))
+>>> [all_cuts(case), verdict(case, latest), verdict(case, first_a), first_log(case, first_a, False)]
+[[(0, 0, 0), (0, 0, 1), (1, 0, 0), (1, 0, 1), (1, 1, 1), (2, 1, 1)], 'yes', 'both', ('c', 'a', 'b', 'a')]
+>>> cut_table(case, first_a)[3:]
+[((1, 0, 1), (1, 2)), ((1, 1, 1), (1, 2)), ((2, 1, 1), (1, 2))]
+
+>>> from partviews.chosen import chosen_log, chosen_place, count_chosen
+>>> case = ((('a', 'b'), ('a', 'b', 'a')), (('b', 'c'), ('c', 'b')))
+>>> latest = ((False, True), ((1, 0, 0), (1, 1, 0)))
+>>> [count_chosen(case, latest, True), chosen_log(case, latest, True, 1), chosen_place(case, latest, True, ('b',))]
+[2, ('c', 'a', 'b', 'a'), 1]
+
+>>> from partviews.forever import forever, position_table
+>>> case = ((('a', 'b'), ('a', 'b')), (('a', 'b'), ('a',)))
+>>> first_a, last_a = ((False, True, False), ((1, 2), (1, 1), (2, 2))), ((False, True), ((1, 0), (1, 0)))
+>>> [forever(case, first_a), forever(case, last_a), position_table(case, last_a)]
+['yes', 'both', [((0, 0), (0,)), ((1, 1), (1,)), ((2, 1), (0, 1))]]
+
+>>> from partviews.knowing import common, known_sets, knows
+>>> from partviews.machines import opposite_of
+>>> family = (('a', 'b'), ('b', 'c'))
+>>> latest, odd = ((False, True), ((1, 0, 0), (1, 1, 0))), ((False, True), ((0, 1, 0), (1, 0, 1)))
+>>> [knows(family, 0, latest), knows(family, 0, opposite_of(family, latest)), common(family, (0, 1), odd) == odd]
+[((False,), ((0, 0, 0),)), ((True, False), ((1, 0, 0), (1, 1, 1))), True]
+>>> known_sets(family, 0, latest, ('c', 'a', 'b'))
+[(0,), (0, 1), (0, 1)]
+>>> from partviews.knowing import depth_of
+>>> [depth_of(family, (0, 1)), depth_of((('a', 'b'), ('b',)), (0, 1)), depth_of(family, (1,))]
+[2, 1, 1]
+
+>>> from partviews.asking import Asking
+>>> space = Asking((('a', 'b'), ('a', 'b')))
+>>> number = space.ask(((False, True, False), ((1, 2), (1, 1), (2, 2))))
+>>> first = space.verdicts()
+>>> space.see(0, 'a')
+>>> [number, first, space.verdicts(), space.news(), space.knowers(0)]
+[0, ['both'], ['yes'], [(0, 'yes')], [0]]
+
+>>> from partviews.records import judge
+>>> family, odd = (('a', 'b'), ('b', 'c')), ((False, True), ((0, 1, 0), (1, 0, 1)))
+>>> [judge(('answered', family, (1,), odd, (0, 1))), judge(('unknown', family, 0, odd, ('b',), ('b', 'c')))]
+[('right',), ('wrong', 4)]
 """
 
 import doctest
@@ -186,7 +249,7 @@ class ExampleTest(unittest.TestCase):
 
     def test_examples_of_the_interface(self):
         result = doctest.testmod(sys.modules[__name__])
-        self.check(result.failed, result.attempted, 116)
+        self.check(result.failed, result.attempted, 159)
 
     def test_examples_of_the_readme(self):
         path = os.path.join(HERE, os.pardir, 'README.md')
@@ -215,6 +278,20 @@ class ExampleTest(unittest.TestCase):
                 'is_question', 'answer_to', 'least_question', 'are_alike', 'parting_log', 'implies', 'joint_classes',
                 'both_of', 'either_of', 'opposite_of', 'once_of', 'before_of', 'since_of',
             ],
+            'needs': ['needed_names', 'needed_pairs', 'need_logs', 'classes_of', 'are_classes'],
+            'groups': [
+                'look_same', 'does_answer', 'parting_logs', 'least_groups', 'greatest_groups', 'further_names',
+                'sees_as_much', 'short_logs', 'telling_question',
+            ],
+            'verdicts': ['all_cuts', 'verdict', 'first_log', 'cut_table', 'is_cut_table'],
+            'chosen': ['count_chosen', 'chosen_log', 'chosen_place'],
+            'forever': ['forever', 'turning_logs', 'position_table', 'is_position_table'],
+            'knowing': [
+                'knows', 'everyone', 'common', 'is_known', 'known_sets', 'other_log', 'first_known', 'common_sets',
+                'leading_logs', 'depth_of', 'depth_group', 'deep_question',
+            ],
+            'asking': ['Asking'],
+            'records': ['judge'],
         }
         for place, names in places.items():
             module = __import__('partviews.' + place, fromlist=names)
