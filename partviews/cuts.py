@@ -28,7 +28,7 @@ class Cuts:
         """Tell whether a value, any value, is a cut."""
         if not isinstance(value, tuple) or len(value) != len(self.names):
             return False
-        if not all(is_integer(many) and many >= 0 for many in value):
+        if not all(is_integer(many) for many in value):
             return False
         return all(many == 0 or self.fits_behind((name, many), value) for name, many in zip(self.names, value))
 

@@ -248,23 +248,23 @@ def leading_logs(family, group, question, log):
     return logs
 
 
-def show_change(family, group, size, names):
-    """Tell whether every so many observers of a group together see one of some names, each of them."""
+def have_one_in_common(family, group, size, names):
+    """Tell whether every so many observers of a group have one of some names in common."""
     return all(
         [any(name in common_names(family, part) for name in names) for part in combinations(group, size)]
     )
 
 
 def telling_names(family, group, depth):
-    """Return as few names as possible of which every group of fewer observers than its depth has one in common.
+    """Return as few names as possible of which any fewer observers of a group than its depth have one in common.
 
-    They are no common names of the group itself.
+    They are no common names of the whole group.
     """
     shared = common_names(family, group)
     names = [name for name in names_of(family) if name not in shared]
     for size in range(1, len(names)):
         for part in combinations(names, size):
-            if show_change(family, group, depth - 1, part):
+            if have_one_in_common(family, group, depth - 1, part):
                 return part
     return tuple(names)
 
@@ -277,9 +277,9 @@ def row_of_order(family, row, state):
 def deep_question(family, group):
     """Return a question for which "everyone", made one time less than the depth, is not alike to "common", or None.
 
-    It answers no if some names have happened in their order. Behind the empty
-    log nobody knows otherwise; but fewer observers than the depth always have
-    one of the names in common, and that it has not happened.
+    It answers no if some names have happened, one after the other. Fewer
+    observers than the depth always have one of these names in common, so that
+    behind the empty log they know that they have not happened.
     """
     require_some(family, group)
     depth = len(find_depth_group(family, group))

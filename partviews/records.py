@@ -68,14 +68,16 @@ def keeps_still(family, group, classes, steps):
 
 
 def keeps_apart(family, group, classes, steps):
-    """Tell whether each two names that a group sees, but no observer of it sees together, commute in classes."""
+    """Tell whether each two names that no observer of a group sees together commute in classes.
+
+    Names that a group does not see at all may be among them: they stand
+    still, as was looked at before, and so they commute with all others.
+    """
     seen = sets_of(family, group)
     names = names_of(family)
     return all([
-        commute(classes, steps, k, other)
+        share(seen, (names[k], names[other])) or commute(classes, steps, k, other)
         for k, other in combinations(range(len(names)), 2)
-        if share(seen, names[k:k + 1]) and share(seen, names[other:other + 1])
-        and not share(seen, (names[k], names[other]))
     ])
 
 

@@ -78,6 +78,14 @@ def number_of_sets(family, names, question):
     return len(machine.places(names_of(family), start, step))
 
 
+def number_of_own_sets(family, names, question):
+    """The same by the states of the question itself, which do not count."""
+    def step(states, name):
+        return further(family, names, question, states, name) if name in names else states
+
+    return len(machine.places(names_of(family), with_hidden(family, names, question, {0}), step))
+
+
 def knows(family, names, question):
     """The least question of what an observer of these names knows, or None if there are too many last tuples."""
     if number_of_sets(family, names, question) > 60:

@@ -131,10 +131,17 @@ class KnowsTest(unittest.TestCase):
             self.assertIs(self.check(((('a', 'b'), ('b', 'c')) * 2)[:3], 2, question) is None, many > 60)
 
     def test_the_least_question_counts(self):
-        # Sixty states that are all alike but two, which hidden names mix: by their states there would be more tuples.
-        question = jumping(0, 9, 4, 5)
-        alike = ((True,) * 9, question[1])
-        self.assertGreater(reference.number_of_sets(FAMILY, ('a', 'b'), question), 60)
+        rng = random.Random(380)
+        for tail, cycle, source, target, many in [(0, 9, 3, 4, 60), (0, 9, 2, 3, 59), (0, 9, 4, 5, 61)]:
+            question = jumping(tail, cycle, source, target)
+            twins = [doubled(rng, question, 14) for _ in range(40)]
+            wide = [twin for twin in twins if reference.number_of_own_sets(FAMILY, ('a', 'b'), twin) > 61]
+            self.assertGreater(len(wide), 5)
+            for twin in wide[:6]:
+                self.assertIs(self.check(FAMILY, 0, twin) is None, many > 60)
+        # States that are all alike are one state.
+        alike = ((True,) * 9, jumping(0, 9, 4, 5)[1])
+        self.assertEqual(reference.number_of_own_sets(FAMILY, ('a', 'b'), alike), 61)
         self.assertEqual(self.check(FAMILY, 0, alike), YES)
 
     def test_very_many_sets(self):
@@ -508,7 +515,13 @@ class DepthTest(unittest.TestCase):
         self.assertEqual(found, {0, 1, 2, 3, 4, 5, 6})
 
     def test_the_program_finds_the_deep_questions(self):
-        for family in [all_but_one(size) for size in (2, 3, 4)] + [all_but_one(5), FAMILY, TRIANGLE * 2]:
+        # Each of six names is seen by all but two of four observers: any two of them have a name in common.
+        pairs = dict(zip('abcdef', combinations(range(4), 2)))
+        four = tuple(tuple(name for name in 'abcdef' if at not in pairs[name]) for at in range(4))
+        self.assertEqual(depth_of(four, (0, 1, 2, 3)), 3)
+        # Four observers that each see all of eight names but two of their own.
+        eight = tuple(tuple(name for name in 'abcdefgh' if name not in own) for own in ('ab', 'cd', 'ef', 'gh'))
+        for family in [all_but_one(size) for size in (2, 3, 4, 5)] + [FAMILY, TRIANGLE * 2, four, four[::-1], eight]:
             group = tuple(range(len(family)))
             question = deep_question(family, group)
             shared = common(family, group, question)

@@ -162,6 +162,8 @@ class CutTableTest(unittest.TestCase):
         values += [[((False, 0, 0), (0,))] + least[1:], [((0, 0, 0), (False,))] + least[1:]]
         values += [least[:-1] + [((2, 1, 1), (1,))], least[:-1] + [((2, 1, 1), (2,))], least[:-1] + [((2, 1, 1), (0,))]]
         values += [least[:-1] + [((2, 1, 1), (True, 2))], least[:-1] + [((2, True, 1), (1, 2))]]
+        values += [least + [((2, 1), ())], least + [((2, 1, 1, 0), ())], least + [((), ())], least + [((2,), (1,))]]
+        values += [least + [((-1, 0, 0), ())], least + [((0, -2, 0), ())], least + [((2, 1, 1, 0, 0), (1, 2))]]
         values += [least[:-1] + [((2, 1, 1), (1, 2, 3))], least[:-1] + [((2, 1, 1), (1, 2), ())]]
         for value in values:
             self.assertIs(self.check(GOOD_CASE, FIRST_A, value), False)
