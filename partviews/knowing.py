@@ -191,8 +191,9 @@ def common_sets(family, group, question, log):
 def find_depth_group(family, group):
     """Return the first of the smallest groups of observers of a group that have just its common names."""
     names = common_names(family, group)
-    for size in range(len(group)):
-        for part in combinations(group, size):
+    observers = list(group)
+    for size in range(len(observers)):
+        for part in combinations(observers, size):
             if common_names(family, part) == names:
                 return part
     return group
@@ -248,11 +249,10 @@ def leading_logs(family, group, question, log):
     return logs
 
 
-def have_one_in_common(family, group, size, names):
-    """Tell whether every so many observers of a group have one of some names in common."""
-    return all(
-        [any(name in common_names(family, part) for name in names) for part in combinations(group, size)]
-    )
+def have_one_in_common(family, observers, size, names):
+    """Tell whether every so many of a list of observers have one of some names in common."""
+    parts = list(combinations(observers, size))
+    return all([any(name in common_names(family, part) for name in names) for part in parts])
 
 
 def telling_names(family, group, depth):
@@ -264,7 +264,7 @@ def telling_names(family, group, depth):
     names = [name for name in names_of(family) if name not in shared]
     for size in range(1, len(names)):
         for part in combinations(names, size):
-            if have_one_in_common(family, group, depth - 1, part):
+            if have_one_in_common(family, list(group), depth - 1, part):
                 return part
     return tuple(names)
 
